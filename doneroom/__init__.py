@@ -1,0 +1,1 @@
+"""Doneroom: rooms given back where the text tells that they are done."""

@@ -1,0 +1,268 @@
+"""What the tests share: small programs, programs at the bounds, and drawn ones."""
+
+import random
+
+KEPT = ("pair", "first", "second", "none", "tell", "back", "either", "or", "again", "end", "do", "part")
+
+EITHER = ("either",)
+OR = ("or",)
+AGAIN = ("again",)
+END = ("end",)
+
+# One line of each of the twelve kinds, the boxes and the word unlike.
+EACH_KIND = (
+    ("pair", "x", "w", "y", "z"),
+    ("first", "x", "y"),
+    ("second", "x", "y"),
+    ("same", "x", "y"),
+    ("none", "x"),
+    ("tell", "y"),
+    ("back", "w"),
+    EITHER,
+    OR,
+    AGAIN,
+    END,
+    ("do", "p"),
+)
+
+# Things that are no name, no line and no program.
+OTHER_THINGS = (None, True, False, 0, 1, -5, (), [], "", "x", (None,), [None], (True, 1), ("x",), ["x"], ((),), ([],))
+
+
+def one(*lines):
+    return (("main", tuple(lines)),)
+
+
+def do(name):
+    return ("do", name)
+
+
+def back(word):
+    return ("back", word)
+
+
+def nested(depth, within=()):
+    lines = tuple(within)
+    for level in range(depth):
+        lines = (AGAIN,) + lines + (END,) if level % 2 == 0 else (EITHER,) + lines + (OR, END)
+    return lines
+
+
+def plain(count):
+    return (("tell", "x"),) * count
+
+
+def backs(count, words=("w",)):
+    return tuple(("back", words[k % len(words)]) for k in range(count))
+
+
+# Programs that just keep a bound of [7], each beside one that passes it by one: (name, kept, passed).
+def bound_cases():
+    return line_bounds() + back_bounds() + block_bounds() + name_bounds() + way_bounds()
+
+
+def parts(*bodies):
+    return tuple((name, tuple(body)) for name, body in zip("abcdefgh", bodies))
+
+
+def times(count, name):
+    return (do(name),) * count
+
+
+def line_bounds():
+    return [
+        ("parts", parts(*[()] * 5), parts(*[()] * 6)),
+        ("lines", one(*plain(48)), one(*plain(49))),
+        ("lines, backs among them", one(*plain(30) + backs(500) + plain(18)), one(*plain(31) + backs(500) + plain(18))),
+        ("lines of blocks", one(*nested(2) * 9 + plain(3)), one(*nested(2) * 9 + plain(4))),
+        ("lines, flat", parts(plain(47) + times(1, "b"), plain(1)), parts(plain(47) + times(1, "b"), plain(2))),
+        ("lines done twice", parts(times(2, "b") + plain(2), plain(23)), parts(times(2, "b") + plain(3), plain(23))),
+        (
+            "lines done within done",
+            parts(times(2, "b"), times(2, "c"), plain(12)),
+            parts(times(2, "b") + plain(1), times(2, "c"), plain(12)),
+        ),
+        ("lines, own do lines too", parts(plain(47) + times(1, "b"), ()), parts(plain(48) + times(1, "b"), ())),
+        ("lines done by none", parts((), plain(48)), parts((), plain(49))),
+        (
+            "lines done by none, do lines too",
+            parts((), plain(28) + times(20, "c"), ()),
+            parts((), plain(28) + times(21, "c"), ()),
+        ),
+    ]
+
+
+def back_bounds():
+    return [
+        ("backs", one(*backs(500)), one(*backs(501))),
+        ("backs beside lines", one(*plain(48) + backs(500)), one(*plain(48) + backs(501))),
+        ("backs, flat", parts(backs(300) + times(1, "b"), backs(200)), parts(backs(300) + times(1, "b"), backs(201))),
+        ("backs done twice", parts(times(2, "b"), backs(250)), parts(times(2, "b") + backs(1), backs(250))),
+        ("backs done by none", parts(backs(500), backs(500)), parts(backs(500), backs(501))),
+    ]
+
+
+def block_bounds():
+    return [
+        ("blocks", one(*nested(6)), one(*nested(7))),
+        ("blocks beside others", one(*nested(6) + nested(6)), one(*nested(6) + nested(7))),
+        ("blocks across do", parts(nested(3, times(1, "b")), nested(3)), parts(nested(3, times(1, "b")), nested(4))),
+        (
+            "blocks across do within do",
+            parts(nested(2, times(1, "b")), nested(2, times(1, "c")), nested(2)),
+            parts(nested(3, times(1, "b")), nested(2, times(1, "c")), nested(2)),
+        ),
+        (
+            "blocks beside a do",
+            parts(nested(6) + times(1, "b"), nested(6)),
+            parts(nested(6) + nested(1, times(1, "b")), nested(6)),
+        ),
+        ("blocks done by none", parts((), nested(6)), parts((), nested(7))),
+    ]
+
+
+def nones(boxes):
+    return tuple(("none", box) for box in boxes)
+
+
+def pairs(words):
+    return tuple(("pair", "x", word, "x", "x") for word in words)
+
+
+def name_bounds():
+    three = (("pair", "a", "w", "b", "c"),)
+    return [
+        ("boxes", one(*nones("abcde")), one(*nones("abcdef"))),
+        ("boxes of a pair", one(*three + nones("de")), one(*three + nones("def"))),
+        (
+            "boxes of each kind",
+            one(("same", "a", "b"), ("first", "c", "d"), ("tell", "e"), ("second", "a", "e")),
+            one(("same", "a", "b"), ("first", "c", "d"), ("tell", "e"), ("second", "a", "f")),
+        ),
+        ("boxes of several parts", parts(three, nones("cde")), parts(three, nones("def"))),
+        ("words of pairs", one(*pairs("abcde")), one(*pairs("abcdef"))),
+        ("words of backs", one(*backs(5, "abcde")), one(*backs(6, "abcdef"))),
+        ("words of both", one(*pairs("abc") + backs(4, "bcde")), one(*pairs("abc") + backs(4, "cdef"))),
+        ("words of several parts", parts(pairs("abc"), backs(3, "cde")), parts(pairs("abc"), backs(3, "def"))),
+    ]
+
+
+def way_bounds():
+    return [
+        ("ways", parts(times(23, "b"), ()), parts(times(24, "b"), ())),
+        ("ways within ways", parts(times(1, "b"), times(22, "c"), ()), parts(times(1, "b"), times(23, "c"), ())),
+        (
+            "ways of unlike parts",
+            parts(times(5, "b") + times(3, "c"), times(3, "c"), ()),
+            parts(times(5, "b") + times(4, "c"), times(3, "c"), ()),
+        ),
+        (
+            "ways in blocks",
+            parts(nested(2, times(12, "b")) + times(11, "b"), ()),
+            parts(nested(2, times(12, "b")) + times(12, "b"), ()),
+        ),
+    ]
+
+
+# Things of the right kinds all through that are no program for one reason each.
+def crooked_programs():
+    return {
+        "names told twice": (("a", ()), ("a", ())),
+        "names told twice, apart": (("a", ()), ("b", ()), ("a", ())),
+        "do of its own part": (("a", (do("a"),)), ("b", ())),
+        "do of one ahead": (("a", (do("b"),)), ("b", (do("a"),))),
+        "do of one ahead, the last": (("a", ()), ("b", ()), ("c", (do("b"),))),
+        "do of none": (("a", (do("c"),)), ("b", ())),
+        "do of none, in a part that none does": (("a", ()), ("b", (do("c"),))),
+        "an end too many": one(END),
+        "an end too many behind a block": one(AGAIN, END, END),
+        "a block left open": one(AGAIN),
+        "an either left open": one(EITHER, OR),
+        "an either without or": one(EITHER, END),
+        "an either with two": one(EITHER, OR, OR, END),
+        "an or in an again": one(AGAIN, OR, END),
+        "an or in no block": one(OR),
+        "an or in a block within the either": one(EITHER, AGAIN, OR, END, END),
+        "wrong blocks in the second part": (("a", (do("b"),)), ("b", (AGAIN,))),
+        "wrong blocks in a part that none does": (("a", ()), ("b", (OR,))),
+        "a block that two parts share": (("a", (AGAIN, do("b"))), ("b", (END,))),
+    }
+
+
+def drawn_body(rng, room, names, level):
+    lines = []
+    while room > 0 and rng.random() < 0.8:
+        kind = rng.choice(("pair", "first", "second", "same", "none", "tell", "back", "either", "again", "do"))
+        boxes = [rng.choice("xyz") for count in range(3)]
+        if kind == "pair":
+            lines.append(("pair", boxes[0], rng.choice("uvw"), boxes[1], boxes[2]))
+        elif kind in ("first", "second", "same"):
+            lines.append((kind, boxes[0], boxes[1]))
+        elif kind in ("none", "tell"):
+            lines.append((kind, boxes[0]))
+        elif kind == "back":
+            lines.append(("back", rng.choice("uvw")))
+        elif kind == "do" and names:
+            lines.append(("do", rng.choice(names)))
+        elif kind == "either" and level < 2:
+            branches = [drawn_body(rng, room // 2 - 1, names, level + 1) for count in range(2)]
+            lines += [EITHER] + branches[0] + [OR] + branches[1] + [END]
+        elif kind == "again" and level < 2:
+            lines += [AGAIN] + drawn_body(rng, room // 2 - 1, names, level + 1) + [END]
+        room -= 1
+    return lines
+
+
+# A program drawn by this number, within the bounds of [7]: the checks of the tests themselves see to that.
+def drawn_program(number):
+    rng = random.Random(number)
+    while True:
+        names = list("abcd")[: rng.randint(1, 4)]
+        parts = []
+        for at, name in enumerate(names):
+            parts.append((name, tuple(drawn_body(rng, rng.randint(1, 8), names[at + 1:], 0))))
+        program = tuple(parts)
+        if within_bounds(program):
+            return program
+
+
+def spliced(program, part=0):
+    lines = ()
+    for line in program[part][1]:
+        if line[0] == "do":
+            lines += spliced(program, [name for name, body in program].index(line[1]))
+        else:
+            lines += (line,)
+    return lines
+
+
+def count_ways(program, part=0):
+    named = [line[1] for line in program[part][1] if line[0] == "do"]
+    return 1 + sum(count_ways(program, [name for name, body in program].index(name)) for name in named)
+
+
+# Only of drawn programs, which are small, have rightly standing blocks and few names.
+def within_bounds(program):
+    if count_ways(program) > 24:
+        return False
+    bodies = [body for name, body in program] + [spliced(program)]
+    if any(len([line for line in body if line[0] != "back"]) > 48 for body in bodies):
+        return False
+    return max(depth_of(body) for body in bodies) <= 6
+
+
+def depth_of(lines):
+    depths = [0]
+    for line in lines:
+        depths.append(depths[-1] + (line in (EITHER, AGAIN)) - (line == END))
+    return max(depths)
+
+
+def drawn_programs(count):
+    return [drawn_program(number) for number in range(count)]
+
+
+# The bits of a number as choices, the last bit first.
+def drawn_choices(number, count):
+    rng = random.Random(number)
+    return [rng.randint(0, 1) for step in range(count)]
