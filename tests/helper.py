@@ -98,6 +98,7 @@ def back_bounds():
         ("backs beside lines", one(*plain(48) + backs(500)), one(*plain(48) + backs(501))),
         ("backs, flat", parts(backs(300) + times(1, "b"), backs(200)), parts(backs(300) + times(1, "b"), backs(201))),
         ("backs done twice", parts(times(2, "b"), backs(250)), parts(times(2, "b") + backs(1), backs(250))),
+        ("backs beside a do", parts(backs(500) + times(1, "b"), ()), parts(backs(501) + times(1, "b"), ())),
         ("backs done by none", parts(backs(500), backs(500)), parts(backs(500), backs(501))),
     ]
 
@@ -117,6 +118,7 @@ def block_bounds():
             parts(nested(6) + times(1, "b"), nested(6)),
             parts(nested(6) + nested(1, times(1, "b")), nested(6)),
         ),
+        ("blocks round a do", parts(nested(6, times(1, "b")), plain(1)), parts(nested(7, times(1, "b")), plain(1))),
         ("blocks done by none", parts((), nested(6)), parts((), nested(7))),
     ]
 
@@ -266,3 +268,54 @@ def drawn_programs(count):
 def drawn_choices(number, count):
     rng = random.Random(number)
     return [rng.randint(0, 1) for step in range(count)]
+
+
+# What stands where, for each spot of the program, told anew from the words of [11]: a dict from spots to lists.
+def all_edges(program):
+    edges = {}
+    add_edges(program, 0, (), None, edges)
+    return edges
+
+
+def add_edges(program, part, way, behind, edges):
+    lines = program[part][1]
+    partners = block_partners(lines)
+    edges[(way, part, len(lines), False)] = [] if behind is None else [behind]
+    for k, line in enumerate(lines):
+        here = (way, part, k, False)
+        edges[here] = [(way, part, k + 1, False)]
+        block = partners.get(k)
+        if line == EITHER:
+            edges[here].append((way, part, block[1] + 1, False))
+        elif line == OR:
+            edges[here] = [(way, part, block[2] + 1, False)]
+        elif line == AGAIN:
+            edges[here] = [(way, part, k, True)]
+            edges[(way, part, k, True)] = [(way, part, block[1] + 1, False), (way, part, k + 1, False)]
+        elif line == END and len(block) == 2:
+            edges[here] = [(way, part, block[0], True)]
+        elif line[0] == "do":
+            named = [name for name, body in program].index(line[1])
+            longer = way + ((part, k),)
+            edges[here] = [(longer, named, 0, False)]
+            add_edges(program, named, longer, (way, part, k + 1, False), edges)
+
+
+# For each line of a block the numbers of all its lines: (either, or, end) or (again, end).
+def block_partners(lines):
+    partners = {}
+    opened = []
+    for k, line in enumerate(lines):
+        if line in (EITHER, AGAIN):
+            opened.append([])
+        if line in (EITHER, OR, AGAIN, END):
+            opened[-1].append(k)
+            partners[k] = opened[-1]
+        if line == END:
+            opened.pop()
+    return partners
+
+
+# Programs within the bounds: drawn ones, and those that just keep them.
+def good_programs(count=60):
+    return drawn_programs(count) + [kept for why, kept, passed in bound_cases()]
