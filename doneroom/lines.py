@@ -38,3 +38,10 @@ def reads(line):
     if line[0] == "first" or line[0] == "second":
         return line[2]
     return line[1] if line[0] == "tell" else None
+
+
+# The letter of paths [15] by which the line goes from the room that it reads.
+def letter_of(line):
+    if line[0] == "first":
+        return 1
+    return 2 if line[0] == "second" else None

@@ -1,6 +1,10 @@
 """What the tests share: small programs, programs at the bounds, and drawn ones."""
 
+import itertools
 import random
+
+from doneroom.runs import run_by
+from doneroom.spots import spots
 
 KEPT = ("pair", "first", "second", "none", "tell", "back", "either", "or", "again", "end", "do", "part")
 
@@ -319,3 +323,186 @@ def block_partners(lines):
 # Programs within the bounds: drawn ones, and those that just keep them.
 def good_programs(count=60):
     return drawn_programs(count) + [kept for why, kept, passed in bound_cases()]
+
+
+def run_of(program, choices=()):
+    return run_by(program, list(choices))[0]
+
+
+def without_backs(program):
+    return tuple((name, tuple(line for line in body if line[0] != "back")) for name, body in program)
+
+
+# Drawn programs without back lines in which something is made.
+def making_programs(count):
+    drawn = []
+    number = 0
+    while len(drawn) < count:
+        program = without_backs(drawn_program(number))
+        if any(line[0] == "pair" for line in spliced(program)):
+            drawn.append(program)
+        number += 1
+    return drawn
+
+
+def named_line(program, spot):
+    lines = program[spot[1]][1]
+    return ("at no line",) if spot[3] or spot[2] == len(lines) else lines[spot[2]]
+
+
+def named_boxes(program):
+    at = {"pair": (1, 3, 4), "first": (1, 2), "second": (1, 2), "same": (1, 2), "none": (1,), "tell": (1,)}
+    return sorted({line[k] for name, body in program for line in body for k in at.get(line[0], ())})
+
+
+def named_words(program):
+    return sorted({line[2] for name, body in program for line in body if line[0] == "pair"})
+
+
+# A room by itself, to tell rooms apart without numbers.
+class Room:
+    def __init__(self, word, first, second, step):
+        self.word = word
+        self.inner = {1: first, 2: second}
+        self.step = step
+
+
+# A plain run told anew from the words of [5] and [14]: (rooms, reads, words told, boxes), with Rooms for numbers.
+def plain_run(program, run):
+    boxes = dict.fromkeys(named_boxes(program))
+    rooms, reads, told = [], [], []
+    for step in range(len(run) - 1):
+        line = named_line(program, run[step])
+        kind = line[0]
+        new = None
+        if kind in ("first", "second", "tell"):
+            room = boxes[line[-1]]
+            if room is not None:
+                reads.append((step, room))
+                new = room.inner[2 if kind == "second" else 1]
+            if kind == "tell":
+                told.append("-" if room is None else room.word)
+        if kind == "same":
+            new = boxes[line[2]]
+        if kind == "pair":
+            new = Room(line[2], boxes[line[3]], boxes[line[4]], step + 1)
+            rooms.append(new)
+        if kind in ("pair", "first", "second", "same", "none"):
+            boxes[line[1]] = new
+    return (rooms, reads, told, boxes)
+
+
+def all_paths(most):
+    return [list(path) for size in range(most + 1) for path in itertools.product((1, 2), repeat=size)]
+
+
+def lead(room, path):
+    for letter in path:
+        room = None if room is None else room.inner[letter]
+    return room
+
+
+# The entries that the rules (a) to (e) of [17] ask, told anew word by word; ends are (seat,), moves (seat, letter, seat).
+def asked_by_holds(program, word, place, entries):
+    listed = spots(program)
+    edges = all_edges(program)
+    here = by_seat(entries)
+    asked = set()
+    for n, spot in enumerate(listed):
+        line = named_line(program, spot)
+        for later in edges[spot]:
+            m = listed.index(later)
+            comes = place is not None and later[3] is False and later[1:3] == place
+            for late in (0, 1):
+                after = 1 if late == 1 or comes else 0
+                given = line[1] if line[0] in ("pair", "first", "second", "same", "none") else None
+                for box in named_boxes(program):
+                    if box != given:
+                        asked |= moved(here, (late, n, box), (after, m, box))
+                if line[0] == "same":
+                    asked |= moved(here, (late, n, line[2]), (after, m, line[1]))
+                if line[0] in ("first", "second"):
+                    for thing in here.get((late, n, line[2]), ()):
+                        if thing != () and thing[0] == (1 if line[0] == "first" else 2):
+                            asked |= moved(here, thing[1], (after, m, line[1]))
+                if line[0] == "pair":
+                    for letter in (1, 2):
+                        seat = (late, n, line[2 + letter])
+                        if here.get(seat):
+                            asked.add(((after, m, line[1]), letter, seat))
+                if line[0] == "pair" and line[2] == word:
+                    asked.add(((1 if comes else 0, m, line[1]),))
+    return asked
+
+
+# What is at each seat: () for an end, (letter, seat) for a move.
+def by_seat(entries):
+    here = {}
+    for entry in entries:
+        here.setdefault(entry[0], set()).add(entry[1:])
+    return here
+
+
+def moved(here, seat, other):
+    return {(other,) + thing for thing in here.get(seat, ())}
+
+
+def entries_of(reader):
+    return {(seat,) for seat in reader[0]} | set(reader[1])
+
+
+def reader_with(entries):
+    return (sorted(entry[0] for entry in entries if len(entry) == 1), sorted(e for e in entries if len(e) == 3))
+
+
+# The least set of entries that has all that is asked by itself.
+def least_entries(asked_by):
+    entries = set()
+    more = asked_by(entries)
+    while not more <= entries:
+        entries |= more
+        more = asked_by(entries)
+    return entries
+
+
+# Straight lines in the leaves of a tree of eithers within an again: as many ways through as there are leaves.
+def leafy_program(number, leaves, boxes="abcde", words="uvw"):
+    rng = random.Random(number)
+    bodies = [[] for leaf in range(leaves)]
+    for at in range(48 - 2 - 3 * (leaves - 1)):
+        kind = rng.choice(("pair", "pair", "pair", "first", "second", "same", "same"))
+        named = [rng.choice(boxes) for count in range(3)]
+        line = ("pair", named[0], rng.choice(words), named[1], named[2]) if kind == "pair" else (kind,) + tuple(named[:2])
+        bodies[at % leaves].append(line)
+    return one(AGAIN, *either_tree(bodies), END)
+
+
+def either_tree(bodies):
+    if len(bodies) == 1:
+        return bodies[0]
+    half = len(bodies) // 2
+    return [EITHER] + either_tree(bodies[:half]) + [OR] + either_tree(bodies[half:]) + [END]
+
+
+# At the bounds of [7] without back lines: 48 lines when flat, five boxes, 24 ways, six blocks within one another.
+def widest_program():
+    step = (("pair", "a", "w", "a", "b"),)
+    ahead = (("pair", "b", "u", "c", "d"), ("pair", "d", "v", "b", "c"), ("second", "e", "a"), ("same", "c", "e"))
+    behind = (("first", "a", "e"), ("tell", "c"), ("second", "e", "c"), ("tell", "e"))
+    main = (AGAIN, EITHER, AGAIN, do("mid")) + ahead + (END, OR, ("first", "c", "a"), END, END) + behind
+    return (
+        ("main", main + (("tell", "a"),)),
+        ("mid", nested(3, times(11, "step") + (("same", "b", "c"), ("second", "a", "d"))) + times(11, "step")),
+        ("lone", (("pair", "e", "lone", "d", "e"),)),
+        ("step", step),
+    )
+
+
+# Again within again six times over, pairs ahead of and behind each.
+def deepest_program():
+    lines = [("first", "e", "a"), ("tell", "e")]
+    for level in range(6):
+        box, other = "abcde"[level % 5], "abcde"[(level + 1) % 5]
+        ahead = [("pair", box, "uvw"[level % 3], other, box), ("second", other, box)]
+        lines = [AGAIN] + ahead + lines + [("same", other, box), END]
+    return one(*lines, *[("pair", "a", "u", "b", "a")] * 15, ("tell", "a"))

@@ -36,6 +36,7 @@ EXPRESSIONS = (
 )
 WALKED = ("zip", "enumerate", "reversed", "range")
 WALKED_METHODS = ("items", "keys", "values")
+VALUES_TOO = set("count index title find get join lower upper split strip copy add".split())
 WALKERS = ("list", "tuple", "dict", "sorted", "sum", "any", "all", "enumerate", "zip", "min", "max")
 
 
@@ -101,6 +102,22 @@ class Check:
                 self.fault("L3", node, "something else at the top")
         if len(set(bound)) != len(bound):
             self.fault("L15", self.tree, "a name bound twice at the top")
+        self.hidden_names()
+
+    # A class or an import of the file whose name a parameter or a local takes.
+    def hidden_names(self):
+        kept = set()
+        for node in self.tree.body:
+            if isinstance(node, ast.ClassDef):
+                kept.add(node.name)
+            elif isinstance(node, ast.ImportFrom):
+                kept |= {alias.asname or alias.name for alias in node.names}
+        for node in ast.walk(self.tree):
+            told = node.arg if isinstance(node, ast.arg) else None
+            if isinstance(node, ast.Name) and isinstance(node.ctx, ast.Store):
+                told = node.id
+            if told in kept:
+                self.fault("L15", node, told)
 
     def plain_value(self, node):
         for inner in ast.walk(node):
@@ -262,10 +279,24 @@ class Check:
         if told.startswith("_") and told not in SPECIAL:
             self.fault("L12", node, told)
         python = any(hasattr(kind, told) for kind in (str, int, list, dict, set, tuple, bytes)) and told not in SPECIAL
+        if isinstance(node.ctx, ast.Store) and python and told not in VALUES_TOO:
+            self.fault("L26", node, told)
         if is_call and python and told not in METHODS:
             self.fault("L25", node, told)
         if not is_call and told in METHODS:
             self.fault("L25", node, told)
+
+
+# Names that are a method in one class and a value in another, in all these texts.
+def methods_and_values(texts):
+    methods, values = set(), set()
+    for text in texts:
+        for node in ast.walk(ast.parse(text)):
+            if isinstance(node, ast.ClassDef):
+                methods |= {inner.name for inner in node.body if isinstance(inner, ast.FunctionDef)}
+            if isinstance(node, ast.Attribute) and isinstance(node.ctx, ast.Store):
+                values.add(node.attr)
+    return methods & values
 
 
 def faults(name, text):

@@ -2,7 +2,7 @@ import re
 import unittest
 from pathlib import Path
 
-from language import faults
+from language import faults, methods_and_values
 
 FOLDER = Path(__file__).resolve().parent.parent / "doneroom"
 
@@ -25,6 +25,7 @@ OUTSIDE = {
     "L23": "def f(x):\n    y = reversed(x)\n    return y\n",
     "L24": "def f(x):\n    y = set(x)\n    return y\n",
     "L25": "def f(x):\n    x.sort()\n",
+    "L26": "def f(x):\n    x.append = 3\n",
     "L27": "def f(x):\n    return '%'\n",
 }
 
@@ -57,7 +58,16 @@ class LanguageTests(unittest.TestCase):
             for module, names in re.findall(r"^from doneroom\.(\w+) import (.*)$", path.read_text(), re.MULTILINE):
                 text = (FOLDER / (module + ".py")).read_text()
                 for name in names.split(", "):
-                    self.assertRegex(text, rf"(?m)^((def|class) {name}\(|{name} = )", path.name)
+                    self.assertRegex(text, rf"(?m)^(def {name}\(|class {name}[(:]|{name} = )", path.name)
+
+    def test_no_name_is_a_method_and_a_value(self):
+        self.assertEqual(methods_and_values([path.read_text() for path in FOLDER.glob("*.py")]), set())
+        clash = "class A:\n    def at(self):\n        return 1\n\n\nclass B:\n    def to(self):\n        self.at = 1\n"
+        self.assertEqual(methods_and_values([clash]), {"at"})
+
+    def test_no_local_hides_an_import_or_a_class(self):
+        for text in ("from doneroom.a import f\n\n\ndef g(f):\n    return f\n", "class A:\n    pass\n\n\ndef g():\n    A = 1\n"):
+            self.assertIn("L15", [fault.split()[1] for fault in faults("x.py", text)])
 
     def test_code_outside_is_found(self):
         for rule, text in OUTSIDE.items():
