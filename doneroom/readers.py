@@ -36,10 +36,15 @@ def moves_of(reader):
 def things_of(reader):
     things = {}
     for seat in reader[0]:
-        things.setdefault(seat, {})[END] = True
+        add_thing(things, seat, END)
     for start, letter, other in reader[1]:
-        things.setdefault(start, {})[(letter, other)] = True
+        add_thing(things, start, (letter, other))
     return things
+
+
+def add_thing(things, seat, thing):
+    there = things.setdefault(seat, {})
+    there[thing] = True
 
 
 def reader_of(things):

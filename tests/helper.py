@@ -402,36 +402,41 @@ def lead(room, path):
     return room
 
 
-# The entries that the rules (a) to (e) of [17] ask, told anew word by word; ends are (seat,), moves (seat, letter, seat).
-def asked_by_holds(program, word, place, entries):
+# For each spot n, its line and each next spot m: (n, line, the box to which it gives something new, m, the spot m is).
+def all_steps(program):
     listed = spots(program)
     edges = all_edges(program)
-    here = by_seat(entries)
-    asked = set()
     for n, spot in enumerate(listed):
         line = named_line(program, spot)
+        given = line[1] if line[0] in ("pair", "first", "second", "same", "none") else None
         for later in edges[spot]:
-            m = listed.index(later)
-            comes = place is not None and later[3] is False and later[1:3] == place
-            for late in (0, 1):
-                after = 1 if late == 1 or comes else 0
-                given = line[1] if line[0] in ("pair", "first", "second", "same", "none") else None
-                for box in named_boxes(program):
-                    if box != given:
-                        asked |= moved(here, (late, n, box), (after, m, box))
-                if line[0] == "same":
-                    asked |= moved(here, (late, n, line[2]), (after, m, line[1]))
-                if line[0] in ("first", "second"):
-                    for thing in here.get((late, n, line[2]), ()):
-                        if thing != () and thing[0] == (1 if line[0] == "first" else 2):
-                            asked |= moved(here, thing[1], (after, m, line[1]))
-                if line[0] == "pair":
-                    for letter in (1, 2):
-                        seat = (late, n, line[2 + letter])
-                        if here.get(seat):
-                            asked.add(((after, m, line[1]), letter, seat))
-                if line[0] == "pair" and line[2] == word:
-                    asked.add(((1 if comes else 0, m, line[1]),))
+            yield n, line, given, listed.index(later), later
+
+
+# The entries that the rules (a) to (e) of [17] ask, told anew word by word; ends are (seat,), moves (seat, letter, seat).
+def asked_by_holds(program, word, place, entries):
+    here = by_seat(entries)
+    asked = set()
+    for n, line, given, m, later in all_steps(program):
+        comes = place is not None and later[3] is False and later[1:3] == place
+        for late in (0, 1):
+            after = 1 if late == 1 or comes else 0
+            for box in named_boxes(program):
+                if box != given:
+                    asked |= moved(here, (late, n, box), (after, m, box))
+            if line[0] == "same":
+                asked |= moved(here, (late, n, line[2]), (after, m, line[1]))
+            if line[0] in ("first", "second"):
+                for thing in here.get((late, n, line[2]), ()):
+                    if thing != () and thing[0] == (1 if line[0] == "first" else 2):
+                        asked |= moved(here, thing[1], (after, m, line[1]))
+            if line[0] == "pair":
+                for letter in (1, 2):
+                    seat = (late, n, line[2 + letter])
+                    if here.get(seat):
+                        asked.add(((after, m, line[1]), letter, seat))
+            if line[0] == "pair" and line[2] == word:
+                asked.add(((1 if comes else 0, m, line[1]),))
     return asked
 
 
@@ -449,6 +454,16 @@ def moved(here, seat, other):
 
 def entries_of(reader):
     return {(seat,) for seat in reader[0]} | set(reader[1])
+
+
+# Whether both lists are sorted, each entry once, and all of the kinds that [16] tells.
+def is_well_formed(reader):
+    ends, moves = reader
+    seats = ends + [move[0] for move in moves] + [move[2] for move in moves]
+    kinds = {(type(seat),) + tuple(type(thing) for thing in seat) for seat in seats}
+    kinds |= {(type(move), len(move), type(move[1])) for move in moves}
+    lists = [type(reader), type(ends), type(moves)] == [tuple, list, list]
+    return lists and kinds <= {(tuple, int, int, str), (tuple, 3, int)} and reader == reader_with(entries_of(reader))
 
 
 def reader_with(entries):
@@ -506,3 +521,163 @@ def deepest_program():
         ahead = [("pair", box, "uvw"[level % 3], other, box), ("second", other, box)]
         lines = [AGAIN] + ahead + lines + [("same", other, box), END]
     return one(*lines, *[("pair", "a", "u", "b", "a")] * 15, ("tell", "a"))
+
+
+# Small programs of few boxes in which much is made, taken apart and read, with choices all through.
+def busy_program(number):
+    rng = random.Random(number)
+    boxes = "xyz"[: rng.randint(1, 3)]
+    names = ["p"] if rng.random() < 0.5 else []
+    parts = [("main", tuple(busy_body(rng, rng.randint(3, 8), boxes, names, 0)))]
+    if names:
+        parts.append(("p", tuple(busy_body(rng, rng.randint(1, 4), boxes, [], 0))))
+    return tuple(parts)
+
+
+def busy_body(rng, size, boxes, names, level):
+    lines = []
+    while len(lines) < size:
+        kind = rng.choice(("pair", "pair", "pair", "first", "second", "same", "tell", "none", "again", "either", "do"))
+        named = [rng.choice(boxes) for count in range(3)]
+        if kind == "pair":
+            lines.append(("pair", named[0], rng.choice("uv"), named[1], named[2]))
+        elif kind in ("first", "second", "same"):
+            lines.append((kind, named[0], named[1]))
+        elif kind in ("tell", "none"):
+            lines.append((kind, named[0]))
+        elif kind == "do" and names:
+            lines.append(do(rng.choice(names)))
+        elif kind == "again" and level < 2:
+            lines += [AGAIN] + busy_body(rng, rng.randint(1, 3), boxes, names, level + 1) + [END]
+        elif kind == "either" and level < 2:
+            branches = [busy_body(rng, rng.randint(0, 2), boxes, names, level + 1) for count in range(2)]
+            lines += [EITHER] + branches[0] + [OR] + branches[1] + [END]
+    return lines
+
+
+def busy_programs(count):
+    drawn = []
+    number = 0
+    while len(drawn) < count:
+        program = busy_program(number)
+        if any(line[0] == "pair" for line in spliced(program)):
+            drawn.append(program)
+        number += 1
+    return drawn
+
+
+# A search through all runs, layer by layer, that tells how many spots the shortest run has by which, as [21] tells, the
+# room of the word is read behind the place: None where the search ends without one, "cut" where it grows too great.
+# Rooms are nodes (of the word: 0 no, 1 made, 2 made and the place come to since; first; second), alike ones one.
+class Search:
+    def __init__(self, program, word, place):
+        self.program = program
+        self.word = word
+        self.place = place
+        self.boxes = named_boxes(program)
+        self.nodes = []
+        self.known = {}
+        self.later = {None: None}
+
+    def node(self, label, first, second):
+        key = (label, first, second)
+        if key not in self.known:
+            self.known[key] = len(self.nodes)
+            self.nodes.append(key)
+        return self.known[key]
+
+    def made_late(self, node):
+        if node not in self.later:
+            label, first, second = self.nodes[node]
+            self.later[node] = self.node(2 if label else 0, self.made_late(first), self.made_late(second))
+        return self.later[node]
+
+    # Tells (whether a late room of the word is read, what the boxes hold behind the line).
+    def step(self, spot, later, held):
+        line = named_line(self.program, spot)
+        kind = line[0]
+        boxes = dict(zip(self.boxes, held))
+        read = boxes[line[-1]] if kind in ("first", "second", "tell") else None
+        new = None
+        if kind in ("first", "second") and read is not None:
+            new = self.nodes[read][2 if kind == "second" else 1]
+        elif kind == "same":
+            new = boxes[line[2]]
+        elif kind == "pair":
+            new = self.node(1 if line[2] == self.word else 0, boxes[line[3]], boxes[line[4]])
+        if kind in ("pair", "first", "second", "same", "none"):
+            boxes[line[1]] = new
+        if later[3] is False and later[1:3] == self.place:
+            boxes = {box: self.made_late(node) for box, node in boxes.items()}
+        return (read is not None and self.nodes[read][0] == 2, tuple(boxes[box] for box in self.boxes))
+
+    def shortest(self, most_spots, most_states):
+        edges = all_edges(self.program)
+        layer = {(((), 0, 0, False), (None,) * len(self.boxes))}
+        seen = set(layer)
+        for size in range(2, most_spots + 1):
+            further = set()
+            for spot, held in layer:
+                for later in edges[spot]:
+                    read, after = self.step(spot, later, held)
+                    if read:
+                        return size
+                    further.add((later, after))
+            layer = further - seen
+            seen |= layer
+            if not layer:
+                return None
+            if len(seen) > most_states:
+                return "cut"
+        return "cut"
+
+
+# 1 where the run came to the place at the spot behind the room's making or later.
+def late_of(run, room, place):
+    return 1 if any(spot[3] is False and spot[1:3] == place for spot in run[room.step:]) else 0
+
+
+def drawn_seat(rng, program):
+    return (rng.randint(0, 1), rng.randrange(len(spots(program))), rng.choice(named_boxes(program)))
+
+
+def drawn_entry(rng, program):
+    seat = drawn_seat(rng, program)
+    return (seat,) if rng.random() < 0.5 else (seat, rng.randint(1, 2), drawn_seat(rng, program))
+
+
+# The entries that the rules (a) to (e) of [19] ask, told anew word by word.
+def asked_by_wants(program, entries):
+    here = by_seat(entries)
+    asked = set()
+    for n, line, given, m, later in all_steps(program):
+        for box in named_boxes(program):
+            if box != given:
+                asked |= moved(here, (0, m, box), (0, n, box))
+        if line[0] == "same":
+            asked |= moved(here, (0, m, line[1]), (0, n, line[2]))
+        if line[0] in ("first", "second"):
+            asked.add(((0, n, line[2]),))
+            if here.get((0, m, line[1])):
+                asked.add(((0, n, line[2]), 1 if line[0] == "first" else 2, (0, m, line[1])))
+        if line[0] == "tell":
+            asked.add(((0, n, line[1]),))
+        if line[0] == "pair":
+            for thing in here.get((0, m, line[1]), ()):
+                if thing != ():
+                    asked |= moved(here, thing[1], (0, n, line[2 + thing[0]]))
+    return asked
+
+
+# What comes of a box and a path by one line: a list of (box, path) behind it.
+def followed(line, box, path):
+    kind = line[0]
+    given = line[1] if kind in ("pair", "first", "second", "same", "none") else None
+    behind = [(box, path)] if box != given else []
+    if kind == "same" and line[2] == box:
+        behind.append((line[1], path))
+    if kind in ("first", "second") and line[2] == box and path[:1] == ((1,) if kind == "first" else (2,)):
+        behind.append((line[1], path[1:]))
+    if kind == "pair":
+        behind += [(line[1], (letter,) + path) for letter in (1, 2) if line[2 + letter] == box]
+    return behind

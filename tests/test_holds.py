@@ -7,9 +7,9 @@ from doneroom.holds import holds, is_closed
 from doneroom.programs import is_program, places_of, words_of
 from doneroom.readers import takes
 from doneroom.spots import spots
-from helper import AGAIN, EITHER, END, OR, asked_by_holds, deepest_program, do, drawn_choices, entries_of, lead
-from helper import leafy_program, least_entries, making_programs, named_boxes, named_words, one, all_paths, plain_run
-from helper import reader_with, run_of, widest_program
+from helper import AGAIN, EITHER, END, OR, all_paths, asked_by_holds, busy_programs, deepest_program, do, drawn_choices
+from helper import drawn_entry, entries_of, is_well_formed, late_of, lead, leafy_program, least_entries, making_programs
+from helper import named_words, one, plain_run, reader_with, run_of, widest_program
 
 MAKE = ("pair", "x", "w", "y", "y")
 TELL = ("tell", "x")
@@ -160,7 +160,7 @@ class RuleTests(unittest.TestCase):
 
 
 def small_cases(count):
-    for number, program in enumerate(making_programs(count)):
+    for number, program in enumerate(making_programs(count // 2) + busy_programs(count // 2)):
         places = places_of(program)
         rng = random.Random(number)
         for word in named_words(program):
@@ -178,14 +178,7 @@ class LeastTests(unittest.TestCase):
 
     def test_form(self):
         for program, word, place in list(small_cases(40)) + [(widest_program(), "w", (1, 2))]:
-            ends, moves = told = holds(program, word, place)
-            self.assertEqual([type(told), type(ends), type(moves)], [tuple, list, list])
-            self.assertEqual(ends, sorted(set(ends)))
-            self.assertEqual(moves, sorted(set(moves)))
-            for move in moves:
-                self.assertEqual((type(move), len(move), type(move[1])), (tuple, 3, int))
-            for seat in ends + [move[0] for move in moves] + [move[2] for move in moves]:
-                self.assertEqual((type(seat), [type(thing) for thing in seat]), (tuple, [int, int, str]))
+            self.assertTrue(is_well_formed(holds(program, word, place)))
 
     def test_told_lists_are_the_askers_own(self):
         program = widest_program()
@@ -294,20 +287,6 @@ class ClosedTests(unittest.TestCase):
         kept = copy.deepcopy(reader)
         is_closed(program, "w", (1, 2), reader)
         self.assertEqual(reader, kept)
-
-
-def drawn_seat(rng, program):
-    return (rng.randint(0, 1), rng.randrange(len(spots(program))), rng.choice(named_boxes(program)))
-
-
-def drawn_entry(rng, program):
-    seat = drawn_seat(rng, program)
-    return (seat,) if rng.random() < 0.5 else (seat, rng.randint(1, 2), drawn_seat(rng, program))
-
-
-# 1 where the run came to the place at the spot behind the room's making or later.
-def late_of(run, room, place):
-    return 1 if any(spot[3] is False and spot[1:3] == place for spot in run[room.step:]) else 0
 
 
 class RunTests(unittest.TestCase):
