@@ -8,7 +8,7 @@ the spot of its own seat.
 """
 
 from doneroom.holds import hold_rules
-from doneroom.nearest import nearest
+from doneroom.nearest import nearest, walk_to
 from doneroom.readers import END
 from doneroom.rules import least_things
 from doneroom.spots import spots
@@ -85,9 +85,6 @@ def run_through(program, origins, entries):
         backward.append(entry[0][1])
         waiting.extend(origins.sources[entry])
     # The spot behind a pair line is come to from that line alone: any run to it has made the room.
-    ahead = origins.near[backward[-1]][1]
-    while ahead is not None:
-        backward.append(ahead)
-        ahead = origins.near[ahead][1]
+    ahead = walk_to(origins.near, backward.pop())
     listed = spots(program)
-    return [listed[n] for n in reversed(backward)]
+    return [listed[n] for n in ahead + list(reversed(backward))]

@@ -681,3 +681,96 @@ def followed(line, box, path):
     if kind == "pair":
         behind += [(line[1], (letter,) + path) for letter in (1, 2) if line[2 + letter] == box]
     return behind
+
+
+# Whether the line ahead of the run's last spot reads a room of the word, the place come to since that was made.
+def reads_at_last(program, word, place, run):
+    rooms, reads, told, boxes = plain_run(program, run)
+    last = len(run) - 2
+    return any(
+        step == last and room.word == word and late_of(run[:-1], room, place) == 1 for step, room in reads
+    )
+
+
+# No seat (1, n, y) is an end where the line of n reads y.
+def has_no_late_read(program, reader):
+    for late, n, box in reader[0]:
+        line = named_line(program, spots(program)[n])
+        if late == 1 and line[0] in ("first", "second", "tell") and line[-1] == box:
+            return False
+    return True
+
+
+# The rooms of a run by a manner, told anew from the words of [22]: (the word, the step of the making, the step at which
+# the room is given back or None), in the order of their making.
+def rooms_by(program, manner, run):
+    rooms = []
+    for room in plain_run(program, run)[0]:
+        given = [step for step in range(room.step, len(run)) if gives_at(manner, room.word, run[step])]
+        rooms.append((room.word, room.step, given[0] if given else None))
+    return rooms
+
+
+def gives_at(manner, word, spot):
+    return spot[3] is False and (word, spot[1:3]) in manner
+
+
+# All runs with at most so many spots.
+def all_runs(program, most_spots):
+    edges = all_edges(program)
+    runs = [[((), 0, 0, False)]]
+    for run in runs:
+        if len(run) < most_spots:
+            runs += [run + [later] for later in edges[run[-1]]]
+    return runs
+
+
+# All that any run can come to: pairs (spot, what is kept there ahead of the givings), with after(kept, spot, line)
+# telling what is kept one step behind it.
+def all_states(program, begin, after):
+    edges = all_edges(program)
+    waiting = [(((), 0, 0, False), begin)]
+    seen = set(waiting)
+    while waiting:
+        spot, kept = waiting.pop()
+        further = after(kept, spot, named_line(program, spot))
+        for later in edges[spot]:
+            if (later, further) not in seen:
+                seen.add((later, further))
+                waiting.append((later, further))
+    return seen
+
+
+# The pairs (word, spot) such that on some run a room of the word is in use at the spot ahead of the givings.
+def used_at(program, manner):
+    def after(kept, spot, line):
+        left = {word for word in kept if not gives_at(manner, word, spot)}
+        return frozenset(left | ({line[2]} if line[0] == "pair" else set()))
+
+    return {(word, spot) for spot, kept in all_states(program, frozenset(), after) for word in kept}
+
+
+def drawn_manner(rng, program, share=0.3):
+    pairs = [(word, place) for word in named_words(program) for place in all_places(program)]
+    return sorted(pair for pair in pairs if rng.random() < share)
+
+
+def all_places(program):
+    return [(part, gap) for part, (name, body) in enumerate(program) for gap in range(len(body) + 1)]
+
+
+# Programs without back lines that reach the bounds of [7] in one way or another.
+def bound_programs():
+    fives = one(AGAIN, *either_tree([five_words(at) for at in range(8)]), END)
+    lone = tuple((name, (("same", "a", "b"),) * 48) for name in "pqrs")
+    mixed = [("pair", "x", "u", "y", "z"), ("pair", "y", "v", "x", "y"), ("second", "z", "y"), ("tell", "z")] * 12
+    chain = [("pair", "x", "w", "x", "y")] * 24 + [("first", "x", "x")] * 24
+    drawn = [leafy_program(number, 2 + number, words="klmno") for number in range(0, 10, 2)]
+    return [widest_program(), deepest_program(), fives, fives + lone, one(*mixed), one(*chain)] + drawn
+
+
+def five_words(at):
+    boxes = "abcde"[at % 5:] + "abcde"[:at % 5]
+    return [("pair", boxes[0], "klmno"[at % 5], boxes[1], boxes[2]), ("same", boxes[3], boxes[0])] + [
+        ("pair", boxes[4], "klmno"[(at + 2) % 5], boxes[0], boxes[3])
+    ]

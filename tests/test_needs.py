@@ -13,30 +13,12 @@ from doneroom.runs import is_run
 from doneroom.spots import spots
 from doneroom.wants import wants
 from helper import AGAIN, EITHER, END, OR, Search, asked_by_holds, back, busy_programs, deepest_program, do, drawn_entry
-from helper import entries_of, is_well_formed, late_of, leafy_program, making_programs, named_boxes, named_line, named_words
-from helper import one, plain_run, reader_with, run_of, widest_program
+from helper import entries_of, has_no_late_read, is_well_formed, leafy_program, making_programs, named_boxes
+from helper import named_words, one, reader_with, reads_at_last, run_of, widest_program
 
 MAKE = ("pair", "x", "w", "y", "y")
 TELL = ("tell", "x")
 WRAP, UNWRAP = ("pair", "x", "v", "x", "y"), ("first", "x", "x")
-
-
-# Whether the line ahead of the run's last spot reads a room of the word, the place come to since that was made.
-def reads_at_last(program, word, place, run):
-    rooms, reads, told, boxes = plain_run(program, run)
-    last = len(run) - 2
-    return any(
-        step == last and room.word == word and late_of(run[:-1], room, place) == 1 for step, room in reads
-    )
-
-
-# No seat (1, n, y) is an end where the line of n reads y.
-def has_no_late_read(program, reader):
-    for late, n, box in reader[0]:
-        line = named_line(program, spots(program)[n])
-        if late == 1 and line[0] in ("first", "second", "tell") and line[-1] == box:
-            return False
-    return True
 
 
 class NeedCase(unittest.TestCase):
