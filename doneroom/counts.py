@@ -1,6 +1,7 @@
 """How many rooms are in use by a manner at each step of a run [27]."""
 
 from doneroom.flows import line_of, place_of
+from doneroom.lines import made_word
 from doneroom.puts import words_by_place
 
 
@@ -19,5 +20,6 @@ def counted(program, manner, run):
 
 
 def add_made(in_use, line):
-    if line is not None and line[0] == "pair":
-        in_use[line[2]] = in_use.get(line[2], 0) + 1
+    word = made_word(line)
+    if word is not None:
+        in_use[word] = in_use.get(word, 0) + 1

@@ -1,6 +1,6 @@
 """The holds: by which paths boxes can lead to rooms of a word [17]."""
 
-from doneroom.lines import gives, letter_of
+from doneroom.lines import gives, letter_of, made_word
 from doneroom.programs import boxes_of
 from doneroom.readers import reader_of, things_of
 from doneroom.rules import Rules, keeps_rules, least_things
@@ -23,7 +23,7 @@ def hold_rules(program, word, place):
         comes = place is not None and m_place == place
         for late in (0, 1):
             add_step(rules, boxes, line, (late, n), (1 if comes else late, m))
-        if line is not None and line[0] == "pair" and line[2] == word:
+        if made_word(line) == word:
             rules.end((1 if comes else 0, m, line[1]))
     return rules
 

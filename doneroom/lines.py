@@ -40,6 +40,11 @@ def reads(line):
     return line[1] if line[0] == "tell" else None
 
 
+# The word under which the line, if there is one, makes a room, or None.
+def made_word(line):
+    return line[2] if line is not None and line[0] == "pair" else None
+
+
 # The letter of paths [15] by which the line goes from the room that it reads.
 def letter_of(line):
     if line[0] == "first":

@@ -11,7 +11,7 @@ from doneroom.holds import hold_rules
 from doneroom.nearest import nearest, walk_to
 from doneroom.readers import END
 from doneroom.rules import least_things
-from doneroom.spots import spots
+from doneroom.spots import spots_at
 from doneroom.steps import steps_of
 
 
@@ -86,5 +86,4 @@ def run_through(program, origins, entries):
         waiting.extend(origins.sources[entry])
     # The spot behind a pair line is come to from that line alone: any run to it has made the room.
     ahead = walk_to(origins.near, backward.pop())
-    listed = spots(program)
-    return [listed[n] for n in ahead + list(reversed(backward))]
+    return spots_at(program, ahead + list(reversed(backward)))

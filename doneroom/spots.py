@@ -14,3 +14,8 @@ def spots(program):
             for later in reversed(next_spots(program, spot)):
                 waiting.append(later)
     return list(met)
+
+
+def spots_at(program, numbers):
+    listed = spots(program)
+    return [listed[n] for n in numbers]

@@ -1,8 +1,9 @@
 """Where rooms of a word can be in use by a manner: from their making until they are given back [22]."""
 
 from doneroom.flows import place_of
+from doneroom.lines import made_word
 from doneroom.nearest import nearest, reached, walk_to
-from doneroom.spots import spots
+from doneroom.spots import spots, spots_at
 
 
 # The numbers of the spots at which the manner gives rooms of the word back.
@@ -13,7 +14,7 @@ def giving_spots(program, manner, word):
 
 # The spots behind the lines that make rooms of the word.
 def made_spots(steps, word):
-    return [m for n, line, m, m_place in steps if line is not None and line[0] == "pair" and line[2] == word]
+    return [m for n, line, m, m_place in steps if made_word(line) == word]
 
 
 # Walks from the making of a room of the word on, as long as it is in use: at each spot that they come to it is so ahead
@@ -27,5 +28,4 @@ def run_in_use(program, steps, used, n):
     walk = walk_to(used, n)
     # The spot behind a pair line is come to from that line alone: any run to it has made the room.
     ahead = walk_to(nearest(steps), walk[0])
-    listed = spots(program)
-    return [listed[k] for k in ahead + walk[1:]]
+    return spots_at(program, ahead + walk[1:])

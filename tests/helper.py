@@ -3,7 +3,7 @@
 import itertools
 import random
 
-from doneroom.runs import run_by
+from doneroom.runs import is_run, run_by
 from doneroom.spots import spots
 
 KEPT = ("pair", "first", "second", "none", "tell", "back", "either", "or", "again", "end", "do", "part")
@@ -12,6 +12,13 @@ EITHER = ("either",)
 OR = ("or",)
 AGAIN = ("again",)
 END = ("end",)
+
+# Lines that many tests use: x and z are given rooms, y never holds one.
+MAKE = ("pair", "x", "w", "y", "y")
+OTHER = ("pair", "z", "v", "y", "y")
+THIRD = ("pair", "z", "u", "y", "y")
+TELL = ("tell", "x")
+IDLE = ("none", "y")
 
 # One line of each of the twelve kinds, the boxes and the word unlike.
 EACH_KIND = (
@@ -774,3 +781,84 @@ def five_words(at):
     return [("pair", boxes[0], "klmno"[at % 5], boxes[1], boxes[2]), ("same", boxes[3], boxes[0])] + [
         ("pair", boxes[4], "klmno"[(at + 2) % 5], boxes[0], boxes[3])
     ]
+
+
+# The words whose rooms in use have no greatest number, told anew: where more are in use at once than there are spots
+# that make them, one of these was come to twice in between, and so can be again and again.
+def grown_words(program, manner):
+    made = [named_line(program, spot) for spot in all_edges(program)]
+    grown = []
+    for word in named_words(program):
+        too_many = 1 + len([line for line in made if line[0] == "pair" and line[2] == word])
+
+        def after(kept, spot, line):
+            left = 0 if gives_at(manner, word, spot) else kept
+            return min(too_many, left + (line[0] == "pair" and line[2] == word))
+
+        if any(kept == too_many for spot, kept in all_states(program, 0, after)):
+            grown.append(word)
+    return grown
+
+
+# The greatest number of rooms in use ahead of the givings, by all that runs can come to; only where nothing grows.
+def most_anew(program, manner):
+    words = named_words(program)
+
+    def after(kept, spot, line):
+        left = [0 if gives_at(manner, word, spot) else many for word, many in zip(words, kept)]
+        return tuple(many + (line[0] == "pair" and line[2] == word) for word, many in zip(words, left))
+
+    return max(sum(kept) for spot, kept in all_states(program, (0,) * len(words), after))
+
+
+# A table as [29] tells it, its words told anew.
+def is_table_for(program, manner, table):
+    keys = [(n, words) for n, words, number in table]
+    if len(set(keys)) < len(keys) or any(number < 0 for n, words, number in table):
+        return False
+    if any(words[k] >= words[k + 1] for n, words, number in table for k in range(len(words) - 1)):
+        return False
+    listed = spots(program)
+    if not {(n, tuple(named_words(program))) for n in range(len(listed))} <= set(keys):
+        return False
+    numbers = dict(zip(keys, [number for n, words, number in table]))
+    for p, line, given, n, later in all_steps(program):
+        for key in [key for key in keys if key[0] == n]:
+            left = tuple(word for word in key[1] if not gives_at(manner, word, listed[p]))
+            more = 1 if line[0] == "pair" and line[2] in key[1] else 0
+            if (p, left) not in numbers or numbers[key] < numbers[(p, left)] + more:
+                return False
+    return True
+
+
+def making_numbers(program):
+    return [n for n, spot in enumerate(spots(program)) if named_line(program, spot)[0] == "pair"]
+
+
+# The pairs of making spots whose rooms are in use at once, by all that runs can come to.
+def clashes_anew(program, manner):
+    listed = spots(program)
+
+    def after(kept, spot, line):
+        left = {n for n in kept if not gives_at(manner, named_line(program, listed[n])[2], spot)}
+        return frozenset(left | ({listed.index(spot)} if line[0] == "pair" else set()))
+
+    states = all_states(program, frozenset(), after)
+    return sorted({(n, m) for spot, kept in states for n in kept for m in kept if n < m})
+
+
+# What [28] tells of rooms that grow, the word the least one.
+def check_growth(case, program, manner, told):
+    case.assertEqual((type(told), len(told), told[0]), (tuple, 4, "grows"))
+    word, run, round_spots = told[1:]
+    case.assertEqual((type(word), type(run), type(round_spots)), (str, list, list))
+    case.assertIs(is_run(program, run), True)
+    case.assertGreater(len(round_spots), 1)
+    case.assertEqual((round_spots[0], round_spots[-1]), (run[-1], run[-1]))
+    edges = all_edges(program)
+    for spot, later in zip(round_spots, round_spots[1:]):
+        case.assertIn(later, edges[spot])
+    made = [named_line(program, spot) for spot in round_spots[:-1]]
+    case.assertTrue(any(line[0] == "pair" and line[2] == word for line in made))
+    case.assertFalse(any(gives_at(manner, word, spot) for spot in round_spots))
+    case.assertEqual(word, min(grown_words(program, manner)))

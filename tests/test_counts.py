@@ -5,13 +5,8 @@ import unittest
 
 from doneroom.counts import counted
 from doneroom.manners import all_done, lean
-from helper import AGAIN, EITHER, END, OR, all_runs, bound_programs, busy_programs, do, drawn_choices, drawn_manner
-from helper import making_programs, one, rooms_by, run_of
-
-MAKE = ("pair", "x", "w", "y", "y")
-OTHER = ("pair", "z", "v", "y", "y")
-TELL = ("tell", "x")
-IDLE = ("none", "y")
+from helper import AGAIN, EITHER, END, IDLE, MAKE, OR, OTHER, TELL, all_runs, bound_programs, busy_programs, do
+from helper import drawn_choices, drawn_manner, making_programs, one, rooms_by, run_of
 
 
 # Told anew from the steps at which each room is made and given back.

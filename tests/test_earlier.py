@@ -7,12 +7,8 @@ from doneroom.earlier import no_later
 from doneroom.manners import all_done, lean
 from doneroom.programs import is_program
 from doneroom.runs import is_run
-from helper import AGAIN, EITHER, END, OR, all_places, all_runs, all_states, bound_programs, busy_programs, do
-from helper import drawn_manner, gives_at, making_programs, named_words, one, rooms_by
-
-MAKE = ("pair", "x", "w", "y", "y")
-OTHER = ("pair", "z", "v", "y", "y")
-IDLE = ("none", "y")
+from helper import AGAIN, EITHER, END, IDLE, MAKE, OR, OTHER, all_places, all_runs, all_states, bound_programs
+from helper import busy_programs, do, drawn_manner, gives_at, making_programs, named_words, one, rooms_by
 
 
 # The words of rooms that at the run's end the other one has given back and the one has not.

@@ -10,13 +10,9 @@ from doneroom.needs import is_done, need
 from doneroom.papers import shows_done
 from doneroom.programs import is_program
 from doneroom.runs import is_run
-from helper import AGAIN, END, asked_by_holds, bound_programs, busy_programs, do, drawn_manner, entries_of
-from helper import has_no_late_read, is_well_formed, making_programs, one, reads_at_last, run_of
-
-MAKE = ("pair", "x", "w", "y", "y")
-OTHER = ("pair", "z", "v", "y", "y")
-TELL = ("tell", "x")
-IDLE = ("none", "y")
+from helper import AGAIN, END, IDLE, MAKE, OTHER, TELL, asked_by_holds, bound_programs, busy_programs, do
+from helper import drawn_manner, entries_of, has_no_late_read, is_well_formed, making_programs, one, reads_at_last
+from helper import run_of
 
 
 class JudgeCase(unittest.TestCase):

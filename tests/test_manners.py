@@ -10,14 +10,9 @@ from doneroom.manners import all_done, first_given, lean
 from doneroom.needs import is_done
 from doneroom.programs import is_program, places_of, words_of
 from doneroom.runs import is_run
-from helper import AGAIN, EITHER, END, OR, all_runs, bound_programs, busy_programs, do, drawn_choices
-from helper import drawn_manner, gives_at, making_programs, named_line, named_words, one, plain_run, rooms_by, run_of
-from helper import used_at
-
-MAKE = ("pair", "x", "w", "y", "y")
-OTHER = ("pair", "z", "v", "y", "y")
-TELL = ("tell", "x")
-IDLE = ("none", "y")
+from helper import AGAIN, EITHER, END, IDLE, MAKE, OR, OTHER, TELL, all_runs, bound_programs, busy_programs, do
+from helper import drawn_choices, drawn_manner, gives_at, making_programs, named_line, named_words, one, plain_run
+from helper import rooms_by, run_of, used_at
 
 
 def places(manner, word):

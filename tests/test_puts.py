@@ -7,14 +7,9 @@ from doneroom.manners import all_done, lean
 from doneroom.programs import is_program, places_of, words_of
 from doneroom.puts import put_in, taken_out
 from doneroom.shows import show_program
-from helper import AGAIN, EITHER, END, OR, all_edges, back, bound_programs, busy_programs, do, drawn_manner, drawn_program
-from helper import drawn_programs, making_programs, one, run_of, without_backs
-
-MAKE = ("pair", "x", "w", "y", "y")
-OTHER = ("pair", "z", "v", "y", "y")
-THIRD = ("pair", "z", "u", "y", "y")
-TELL = ("tell", "x")
-IDLE = ("none", "y")
+from helper import AGAIN, EITHER, END, IDLE, MAKE, OR, OTHER, TELL, THIRD, all_edges, back, bound_programs
+from helper import busy_programs, do, drawn_manner, drawn_program, drawn_programs, making_programs, one, run_of
+from helper import without_backs
 
 
 class PutInTests(unittest.TestCase):
